@@ -1,0 +1,1 @@
+"""Tornentries: files of tagged entries, grown in place, torn."""
