@@ -1,0 +1,43 @@
+import inspect
+import unittest
+from importlib import import_module
+
+INTERFACE = {
+    "numbers": {"written": "(order, number, many)", "number_in": "(order, numbers)"},
+    "cells": {"is_file": "(thing)", "is_stroke": "(thing)", "cell_of": "(file, cell)", "stroked": "(file, strokes)"},
+    "kinds": {"is_known": "(thing)", "width": "(kind)"},
+    "worths": {
+        "is_worths": "(kind, thing, *, known=(1, 2, 3, 4, 5, 6))",
+        "packed": "(order, kind, worths, *, known=(1, 2, 3, 4, 5, 6))",
+        "unpacked": "(order, kind, count, cells, *, known=(1, 2, 3, 4, 5, 6))",
+    },
+    "trees": {
+        "is_entry": "(thing, *, known=(1, 2, 3, 4, 5, 6))",
+        "is_table": "(thing, *, known=(1, 2, 3, 4, 5, 6))",
+        "is_tree": "(thing, *, known=(1, 2, 3, 4, 5, 6))",
+        "table_at": "(tree, path, *, known=(1, 2, 3, 4, 5, 6))",
+        "entry_at": "(tree, path, tag, *, known=(1, 2, 3, 4, 5, 6))",
+    },
+    "reading": {"head_of": "(file)", "read": "(file, *, known=(1, 2, 3, 4, 5, 6), root=None)"},
+}
+
+ERRORS = ("TornError", "Spoilt", "NoTable", "NoTag", "NoShare", "Taken", "NoPiece", "TooMany", "TooDeep", "TooGreat", "NoDeed",
+          "Raw", "NoWay", "NoGrid", "Busy", "NoText", "NoLine", "NoReader")
+
+
+class InterfaceTest(unittest.TestCase):
+    def test_functions_and_their_arguments(self):
+        for module, functions in INTERFACE.items():
+            for name, arguments in functions.items():
+                with self.subTest((module, name)):
+                    function = getattr(import_module("tornentries." + module), name)
+                    self.assertEqual(str(inspect.signature(function)), arguments)
+
+    def test_each_stands_in_its_file(self):
+        for module, functions in INTERFACE.items():
+            for name in functions:
+                function = getattr(import_module("tornentries." + module), name)
+                self.assertEqual(function.__module__, "tornentries." + module, name)
+        for name in ERRORS:
+            error = getattr(import_module("tornentries.errors"), name)
+            self.assertEqual(error.__module__, "tornentries.errors", name)
