@@ -76,3 +76,25 @@ def laid(order, root, parts, junk=171, cells=0):
         assert len(numbers) % 4 == 0
         file[4 * first:4 * first + len(numbers)] = numbers
     return tuple(file)
+
+
+def variants(thing):
+    """Things that are this one but for one thing in it, at each place."""
+    if isinstance(thing, (tuple, list)):
+        kind, other = (tuple, list) if isinstance(thing, tuple) else (list, tuple)
+        yield other(thing)
+        yield kind(list(thing) + [0])
+        for at, part in enumerate(thing):
+            rest = list(thing[:at]), list(thing[at + 1:])
+            yield kind(rest[0] + rest[1])
+            yield kind(rest[0] + [part, part] + rest[1])
+            for fresh in variants(part):
+                yield kind(rest[0] + [fresh] + rest[1])
+    elif isinstance(thing, int):
+        yield from (thing + 1, thing - 1, None, str(thing), (thing,))
+        if thing in (0, 1):
+            yield thing == 1
+    elif isinstance(thing, str):
+        yield from (thing + "x", thing[:-1], None, 0)
+    else:
+        yield from (0, (), "")

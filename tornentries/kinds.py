@@ -33,6 +33,21 @@ def width(kind):
     return RAW_WIDTHS[kind % 3]
 
 
+def has_chains(kind, known):
+    """Whether worths of the kind are chains to who knows these kinds."""
+    return kind == TABLES and kind in known
+
+
+def has_pieces(kind, known):
+    """Whether worths of the kind are pieces to who knows these kinds."""
+    return kind == PIECES and kind in known
+
+
+def has_text(kind, known):
+    """Whether worths of the kind are a text to who knows these kinds."""
+    return kind == TEXT and kind in known
+
+
 def sign_of(number):
     """The sign that has this number in a file, or None."""
     for first, signs in SIGN_ROWS:

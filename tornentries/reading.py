@@ -2,34 +2,47 @@
 
 from tornentries.cells import CELL, cell_of, cells_for
 from tornentries.errors import Spoilt
-from tornentries.kinds import KNOWN, PIECES, TABLES, TEXT, sign_of, width
+from tornentries.kinds import KNOWN, has_chains, has_pieces, has_text, sign_of, width
 from tornentries.numbers import number_in, written
 from tornentries.trees import MOST_DEEP, MOST_ENTRIES, MOST_TABLES
 from tornentries.worths import MOST_WORTHS, unpacked
 
 HEAD_CELLS = 2
+ROOT_CELL = 1
 HEAD_NUMBER = 2028
 HEAD_MARKS = (("small", 60), ("great", 62))
 ENTRY_CELLS = 3
+LOST = "lost"
 
 # Sorts of cells that may be used by others of the same sort; tables and lists of chains may not.
 SHARED = ("worth", "pieces", "piece")
 
 
+def head_cells(order, root):
+    """The two cells of a head."""
+    marks = tuple([mark for marked, mark in HEAD_MARKS if marked == order])
+    return (marks + marks + written(order, HEAD_NUMBER, 2), written(order, root, CELL))
+
+
 def head_of(file):
     """The order of the file, and the pointer to its first table."""
-    for order, mark in HEAD_MARKS:
-        first = (mark, mark) + written(order, HEAD_NUMBER, 2)
-        if len(file) >= CELL * HEAD_CELLS and cell_of(file, 0) == first:
-            return order, number_in(order, cell_of(file, 1))
+    for order, _ in HEAD_MARKS:
+        if len(file) >= CELL * HEAD_CELLS and cell_of(file, 0) == head_cells(order, 0)[0]:
+            return order, number_in(order, cell_of(file, ROOT_CELL))
     raise Spoilt("head", (), None)
 
 
 def read(file, *, known=KNOWN, root=None):
     """The tree of the file, from the root in its head or from another one."""
+    return reading_of(file, known, root).tree
+
+
+def reading_of(file, known, root=None):
+    """The whole reading of the file, its tree and whose its cells are."""
     order, first = head_of(file)
-    reading = Reading(file, order, known)
-    return order, reading.chain(first if root is None else root, (), ())
+    reading = Reading(file, order, known, False)
+    reading.begin(first if root is None else root)
+    return reading
 
 
 def table_cells(room):
@@ -38,16 +51,38 @@ def table_cells(room):
 
 
 class Reading:
-    """One reading of a file, and who holds each cell of it so far.
+    """One reading of a file: its tree, and who holds each cell of it.
 
-    A path leads to a table; within are the first cells of the tables that a table stands in.
+    A path leads to a table; within are the first cells of the tables that a table stands in. A reading that goes on
+    keeps what is lost in losses; another one is refused at the first loss.
     """
 
-    def __init__(self, file, order, known):
+    def __init__(self, file, order, known, goes_on):
         self.numbers = file
         self.order = order
         self.known = known
+        self.goes_on = goes_on
         self.held = {}
+        self.owners = {}
+        self.tables = {}
+        self.losses = []
+        self.has_raw = False
+        self.tree = None
+
+    def begin(self, root):
+        """Reads the tree from this pointer on."""
+        self.tree = (self.order, self.chain(root, (), ()))
+
+    def lose(self, why, path, number):
+        """What stands in the place of what is lost."""
+        if not self.goes_on:
+            raise Spoilt(why, path, number)
+        self.losses.append((why, path, number))
+        return (LOST, why)
+
+    def length(self):
+        """How many cells the file has."""
+        return len(self.numbers) // CELL
 
     def number_at(self, cell):
         """The number that is written in the cell."""
@@ -72,10 +107,12 @@ class Reading:
             return "crossed"
         return None
 
-    def hold(self, sort, first, many):
-        """Notes that these cells are held together."""
+    def hold(self, sort, first, many, owner):
+        """Notes that these cells are held together, and for whom."""
+        part = (sort, first, many)
         for cell in range(first, first + many):
-            self.held[cell] = (sort, first, many)
+            self.held[cell] = part
+        self.owners.setdefault(part, []).append(owner)
 
     def chain(self, pointer, start, within):
         """The chain to which the pointer leads; start with a number behind it is the path of a table."""
@@ -85,9 +122,11 @@ class Reading:
             path = start + (len(tables),)
             why = self.fault_of_table(pointer, firsts, within)
             if why is not None:
-                raise Spoilt(why, path, None)
+                tables.append(self.lose(why, path, None))
+                break
             many, room = self.pair_at(pointer)
-            self.hold("table", pointer, table_cells(room))
+            self.hold("table", pointer, table_cells(room), path)
+            self.tables[path] = pointer
             tables.append(self.entries(pointer, many, path, within + (pointer,)))
             firsts.append(pointer)
             pointer = self.number_at(pointer + table_cells(room) - 1)
@@ -116,62 +155,73 @@ class Reading:
             cell = first + 1 + ENTRY_CELLS * number
             tag, kind = self.pair_at(cell)
             if number > 0 and tag <= found[-1][0]:
-                raise Spoilt("tags", path, number)
-            found.append((tag, kind, self.worths(cell, path, number, within)))
+                worths = self.lose("tags", path, number)
+            else:
+                worths = self.worths(cell, path, number, within)
+            found.append((tag, kind, worths))
         return tuple(found)
 
     def worths(self, cell, path, number, within):
         """The worths of the entry that stands from the cell on."""
         tag, kind = self.pair_at(cell)
         count = self.number_at(cell + 1)
-        if count > MOST_WORTHS:
-            raise Spoilt("many", path, number)
+        if kind not in self.known:
+            self.has_raw = True
+        place = self.place_of(cell)
+        why = self.fault_of_worths(place, kind, count)
+        if why is not None:
+            return self.lose(why, path, number)
         sort = self.sort_of(kind)
-        place = self.place_of(cell + 2, sort, count * width(kind), path, number)
+        if count * width(kind) > CELL:
+            self.hold(sort, place, cells_for(count * width(kind)), (path, tag))
         if sort == "worth":
-            return self.plain(place, kind, count, path, number)
+            return self.plain(place, kind, count)
         pointers = [self.number_at(place + k) for k in range(count)]
         if sort == "pieces":
-            return tuple([self.piece(pointer, path, number) for pointer in pointers])
+            return tuple([self.piece(pointer, path, number, (path, tag, k)) for k, pointer in enumerate(pointers)])
         return tuple([self.chain(pointer, path + (tag, k), within) for k, pointer in enumerate(pointers)])
 
     def sort_of(self, kind):
         """The sort of the cells elsewhere that worths of the kind, or pointers to them, stand in."""
-        if kind in self.known and kind == TABLES:
+        if has_chains(kind, self.known):
             return "chains"
-        if kind in self.known and kind == PIECES:
+        if has_pieces(kind, self.known):
             return "pieces"
         return "worth"
 
-    def place_of(self, cell, sort, size, path, number):
-        """The first cell of so many numbers: the place itself where they fit, or where it leads."""
-        if size <= CELL:
-            return cell
-        first = self.number_at(cell)
-        why = self.fault_of(sort, first, cells_for(size))
-        if why is not None:
-            raise Spoilt(why, path, number)
-        self.hold(sort, first, cells_for(size))
-        return first
+    def place_of(self, cell):
+        """The first cell of the worths of the entry that stands from the cell on: its last one, or where that leads."""
+        _, kind = self.pair_at(cell)
+        if self.number_at(cell + 1) * width(kind) <= CELL:
+            return cell + 2
+        return self.number_at(cell + 2)
 
-    def plain(self, place, kind, count, path, number):
+    def fault_of_worths(self, place, kind, count):
+        """Why there can't be so many worths of the kind, or None."""
+        if count > MOST_WORTHS:
+            return "many"
+        size = count * width(kind)
+        why = self.fault_of(self.sort_of(kind), place, cells_for(size)) if size > CELL else None
+        if why is None and has_text(kind, self.known):
+            signs = self.numbers[CELL * place:CELL * place + count]
+            if not all([sign_of(sign) is not None for sign in signs]):
+                return "sign"
+        return why
+
+    def plain(self, place, kind, count):
         """Worths of the kinds 1 to 4, and raw ones."""
         cells = [cell_of(self.numbers, place + k) for k in range(cells_for(count * width(kind)))]
-        if kind == TEXT and kind in self.known:
-            numbers = self.numbers[CELL * place:CELL * place + count]
-            if not all([sign_of(sign) is not None for sign in numbers]):
-                raise Spoilt("sign", path, number)
         return unpacked(self.order, kind, count, cells, known=self.known)
 
-    def piece(self, first, path, number):
+    def piece(self, first, path, number, owner):
         """The piece to which a pointer leads."""
         if first == 0:
             return ()
         why = self.fault_of_piece(first)
         if why is not None:
-            raise Spoilt(why, path, number)
+            return self.lose(why, path, number)
         many = self.number_at(first)
-        self.hold("piece", first, 1 + cells_for(many))
+        self.hold("piece", first, 1 + cells_for(many), owner)
         return tuple(self.numbers[CELL * (first + 1):CELL * (first + 1) + many])
 
     def fault_of_piece(self, first):

@@ -1,7 +1,7 @@
 """Trees: chains of tables of entries, told of anything, and paths in them."""
 
 from tornentries.errors import NoTable, NoTag
-from tornentries.kinds import KNOWN, MOST_KIND, TABLES
+from tornentries.kinds import KNOWN, MOST_KIND, has_chains
 from tornentries.whole import is_rising, is_whole, is_within
 from tornentries.worths import MOST_WORTHS, is_worths
 
@@ -38,7 +38,7 @@ def _is_entry(thing, known, deep):
     tag, kind, worths = thing
     if not is_within(tag, 0, MOST_KIND) or not is_within(kind, 0, MOST_KIND):
         return False
-    if kind == TABLES and kind in known:
+    if has_chains(kind, known):
         return _are_chains(worths, known, deep)
     return is_worths(kind, worths, known=known)
 
@@ -72,14 +72,20 @@ def is_path(thing):
     return all([is_whole(number) and number >= 0 for number in thing])
 
 
+def chain_of(tree, path, known):
+    """The chain in which the last number of the path counts, or None."""
+    chain = tree[1]
+    for at in range(1, len(path), 3):
+        table = _nth(chain, path[at - 1])
+        chain = _nth(_chains_of(table, path[at], known), path[at + 1])
+    return chain
+
+
 def table_at(tree, path, *, known=KNOWN):
     """The table to which the path leads."""
     if not is_path(path):
         raise NoTable(None)
-    table = _nth(tree[1], path[0])
-    for at in range(1, len(path), 3):
-        tag, k, n = path[at:at + 3]
-        table = _nth(_nth(_chains_of(table, tag, known), k), n)
+    table = _nth(chain_of(tree, path, known), path[-1])
     if table is None:
         raise NoTable(path)
     return table
@@ -90,10 +96,35 @@ def entry_at(tree, path, tag, *, known=KNOWN):
     table = table_at(tree, path, known=known)
     if not is_whole(tag):
         raise NoTag(None)
-    entry = _entry_of(table, tag)
+    entry = entry_of(table, tag)
     if entry is None:
         raise NoTag(tag)
     return entry
+
+
+def entry_of(table, tag):
+    """The entry of the tag in the table, or None."""
+    for entry in table:
+        if entry[0] == tag:
+            return entry
+    return None
+
+
+def entries_within(chain, start, known):
+    """All entries of the chain, each as its path and itself, in the order of reading.
+
+    Start with a number behind it is the path of a table.
+    """
+    found = []
+    for n, table in enumerate(chain):
+        path = start + (n,)
+        for entry in table:
+            found.append((path, entry))
+            tag, kind, worths = entry
+            if has_chains(kind, known):
+                for k, inner in enumerate(worths):
+                    found.extend(entries_within(inner, path + (tag, k), known))
+    return found
 
 
 def _nth(row, n):
@@ -102,17 +133,10 @@ def _nth(row, n):
     return row[n]
 
 
-def _entry_of(table, tag):
-    for entry in table:
-        if entry[0] == tag:
-            return entry
-    return None
-
-
 def _chains_of(table, tag, known):
-    if table is None or TABLES not in known:
+    if table is None:
         return None
-    entry = _entry_of(table, tag)
-    if entry is None or entry[1] != TABLES:
+    entry = entry_of(table, tag)
+    if entry is None or not has_chains(entry[1], known):
         return None
     return entry[2]
