@@ -19,6 +19,28 @@ INTERFACE = {
         "entry_at": "(tree, path, tag, *, known=(1, 2, 3, 4, 5, 6))",
     },
     "reading": {"head_of": "(file)", "read": "(file, *, known=(1, 2, 3, 4, 5, 6), root=None)"},
+    "maps": {
+        "map_of": "(file, *, known=(1, 2, 3, 4, 5, 6), root=None)",
+        "lets_map": "(file, thing, *, known=(1, 2, 3, 4, 5, 6), root=None)",
+        "cells_in": "(file, *, known=(1, 2, 3, 4, 5, 6), root=None)",
+    },
+    "saving": {
+        "saved": "(file, *, known=(1, 2, 3, 4, 5, 6))",
+        "losses": "(file, *, known=(1, 2, 3, 4, 5, 6))",
+        "is_part": "(some, tree, *, known=(1, 2, 3, 4, 5, 6))",
+    },
+    "making": {"made": "(tree, *, room=0)", "turned": "(tree, order)"},
+    "least": {"least": "(tree)", "needed": "(tree)", "is_least": "(file)"},
+    "deeds": {
+        "is_deed": "(thing, *, known=(1, 2, 3, 4, 5, 6))",
+        "done": "(tree, deed, *, known=(1, 2, 3, 4, 5, 6))",
+    },
+    "strokes": {"strokes_of": "(file, deed, *, known=(1, 2, 3, 4, 5, 6), kept=(), room=2)"},
+    "cuts": {
+        "torn": "(file, strokes, many)",
+        "lets_strokes": "(file, deed, thing, *, known=(1, 2, 3, 4, 5, 6), kept=())",
+    },
+    "alike": {"first_unlike": "(one, other, *, known=(1, 2, 3, 4, 5, 6))"},
 }
 
 ERRORS = ("TornError", "Spoilt", "NoTable", "NoTag", "NoShare", "Taken", "NoPiece", "TooMany", "TooDeep", "TooGreat", "NoDeed",
