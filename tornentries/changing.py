@@ -5,7 +5,8 @@ from tornentries.fresh import FreshCells
 from tornentries.laying import Laying
 from tornentries.links import Links
 from tornentries.numbers import written
-from tornentries.reading import ENTRY_CELLS, ROOT_CELL
+from tornentries.reading import ROOT_CELL
+from tornentries.sheet import ENTRY_CELLS
 
 
 class Changing:

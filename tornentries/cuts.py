@@ -19,12 +19,12 @@ def lets_strokes(file, deed, thing, *, known=KNOWN, kept=()):
     if not isinstance(thing, list) or not all([is_stroke(stroke) for stroke in thing]):
         return False
     reading = reading_of(file, known)
-    aim = done(reading.tree, deed, known=known)
-    if aim == reading.tree or len(thing) == 0:
-        return aim == reading.tree and len(thing) == 0
+    aim = done(reading.tree_read, deed, known=known)
+    if aim == reading.tree_read or len(thing) == 0:
+        return aim == reading.tree_read and len(thing) == 0
     if not _are_placed(reading, [cell for cell, _ in thing], {cell: True for cell in kept}):
         return False
-    return _read_as(file, thing, known, reading.tree, aim)
+    return _read_as(file, thing, known, reading.tree_read, aim)
 
 
 def _are_placed(reading, cells, kept):

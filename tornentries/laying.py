@@ -7,7 +7,8 @@ is how many numbers of them matter, from the first on.
 from tornentries.cells import CELL, cells_for
 from tornentries.kinds import KNOWN, has_chains, has_pieces, width
 from tornentries.numbers import written
-from tornentries.reading import ENTRY_CELLS, HEAD_CELLS, head_cells
+from tornentries.reading import head_cells
+from tornentries.sheet import ENTRY_CELLS, HEAD_CELLS
 from tornentries.trees import MOST_ENTRIES
 from tornentries.worths import packed
 

@@ -5,7 +5,8 @@ from tornentries.errors import Raw, Spoilt
 from tornentries.kinds import KNOWN, has_chains, has_pieces, width
 from tornentries.laying import Laying, Row
 from tornentries.making import file_within, refuse_raw
-from tornentries.reading import HEAD_CELLS, SHARED, read
+from tornentries.reading import SHARED, read
+from tornentries.sheet import HEAD_CELLS
 from tornentries.trees import entries_within
 from tornentries.worths import packed
 
@@ -33,7 +34,7 @@ def is_least(file):
 
 def _laid(tree):
     """The root, and the cells behind the head, of a least file."""
-    refuse_raw(tree)
+    refuse_raw(tree, KNOWN)
     order, chain = tree
     store = SharingRow()
     for cells, size in _worths_elsewhere(order, chain):

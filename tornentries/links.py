@@ -6,7 +6,8 @@ the part that it stands in (None of the head, which isn't laid elsewhere).
 
 from tornentries.cells import cell_of
 from tornentries.numbers import number_in
-from tornentries.reading import ENTRY_CELLS, ROOT_CELL, table_cells
+from tornentries.reading import ROOT_CELL
+from tornentries.sheet import ENTRY_CELLS, table_cells
 
 
 class Links:

@@ -2,7 +2,8 @@
 
 from tornentries.errors import Spoilt
 from tornentries.kinds import KNOWN
-from tornentries.reading import ENTRY_CELLS, HEAD_CELLS, reading_of
+from tornentries.reading import reading_of
+from tornentries.sheet import ENTRY_CELLS, HEAD_CELLS
 
 # What the sorts that a reading tells apart are called in a map.
 MAP_SORTS = {"table": "table", "chains": "list", "pieces": "list", "worth": "worth", "piece": "piece"}

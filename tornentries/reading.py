@@ -2,16 +2,14 @@
 
 from tornentries.cells import CELL, cell_of, cells_for
 from tornentries.errors import Spoilt
-from tornentries.kinds import KNOWN, has_chains, has_pieces, has_text, sign_of, width
+from tornentries.kinds import KNOWN, width
 from tornentries.numbers import number_in, written
-from tornentries.trees import MOST_DEEP, MOST_ENTRIES, MOST_TABLES
-from tornentries.worths import MOST_WORTHS, unpacked
+from tornentries.sheet import ENTRY_CELLS, HEAD_CELLS, Sheet, table_cells
+from tornentries.trees import MOST_DEEP, MOST_TABLES
 
-HEAD_CELLS = 2
 ROOT_CELL = 1
 HEAD_NUMBER = 2028
 HEAD_MARKS = (("small", 60), ("great", 62))
-ENTRY_CELLS = 3
 LOST = "lost"
 
 # Sorts of cells that may be used by others of the same sort; tables and lists of chains may not.
@@ -34,7 +32,7 @@ def head_of(file):
 
 def read(file, *, known=KNOWN, root=None):
     """The tree of the file, from the root in its head or from another one."""
-    return reading_of(file, known, root).tree
+    return reading_of(file, known, root).tree_read
 
 
 def reading_of(file, known, root=None):
@@ -45,12 +43,7 @@ def reading_of(file, known, root=None):
     return reading
 
 
-def table_cells(room):
-    """How many cells a table with this room stands in."""
-    return 2 + ENTRY_CELLS * room
-
-
-class Reading:
+class Reading(Sheet):
     """One reading of a file: its tree, and who holds each cell of it.
 
     A path leads to a table; within are the first cells of the tables that a table stands in. A reading that goes on
@@ -58,20 +51,18 @@ class Reading:
     """
 
     def __init__(self, file, order, known, goes_on):
-        self.numbers = file
-        self.order = order
-        self.known = known
+        super().__init__(file, order, known)
         self.goes_on = goes_on
         self.held = {}
         self.owners = {}
         self.tables = {}
         self.losses = []
         self.has_raw = False
-        self.tree = None
+        self.tree_read = None
 
     def begin(self, root):
         """Reads the tree from this pointer on."""
-        self.tree = (self.order, self.chain(root, (), ()))
+        self.tree_read = (self.order, self.chain(root, (), ()))
 
     def lose(self, why, path, number):
         """What stands in the place of what is lost."""
@@ -80,27 +71,11 @@ class Reading:
         self.losses.append((why, path, number))
         return (LOST, why)
 
-    def length(self):
-        """How many cells the file has."""
-        return len(self.numbers) // CELL
-
-    def number_at(self, cell):
-        """The number that is written in the cell."""
-        return number_in(self.order, cell_of(self.numbers, cell))
-
-    def pair_at(self, cell):
-        """The two numbers that are written in the cell."""
-        numbers = cell_of(self.numbers, cell)
-        return number_in(self.order, numbers[:2]), number_in(self.order, numbers[2:])
-
-    def is_inside(self, first, many):
-        """Whether so many cells from the first on are behind the head and in the file."""
-        return first >= HEAD_CELLS and CELL * (first + many) <= len(self.numbers)
-
     def fault_of(self, sort, first, many):
         """Why cells can't be held, or None."""
-        if not self.is_inside(first, many):
-            return "beyond"
+        why = super().fault_of(sort, first, many)
+        if why is not None:
+            return why
         holders = [self.held.get(cell) for cell in range(first, first + many)]
         fitting = (None, (sort, first, many)) if sort in SHARED else (None,)
         if not all([holder in fitting for holder in holders]):
@@ -136,11 +111,10 @@ class Reading:
         """Why there can't be a table behind those ahead in its chain, or None."""
         if first in ahead or first in within:
             return "ring"
-        if not self.is_inside(first, 1):
-            return "beyond"
-        many, room = self.pair_at(first)
-        if many > room or room > MOST_ENTRIES:
-            return "room"
+        why = self.fault_of_start(first)
+        if why is not None:
+            return why
+        _, room = self.pair_at(first)
         why = self.fault_of("table", first, table_cells(room))
         if why is not None:
             return why
@@ -176,42 +150,10 @@ class Reading:
             self.hold(sort, place, cells_for(count * width(kind)), (path, tag))
         if sort == "worth":
             return self.plain(place, kind, count)
-        pointers = [self.number_at(place + k) for k in range(count)]
+        pointers = self.pointers(place, count)
         if sort == "pieces":
             return tuple([self.piece(pointer, path, number, (path, tag, k)) for k, pointer in enumerate(pointers)])
         return tuple([self.chain(pointer, path + (tag, k), within) for k, pointer in enumerate(pointers)])
-
-    def sort_of(self, kind):
-        """The sort of the cells elsewhere that worths of the kind, or pointers to them, stand in."""
-        if has_chains(kind, self.known):
-            return "chains"
-        if has_pieces(kind, self.known):
-            return "pieces"
-        return "worth"
-
-    def place_of(self, cell):
-        """The first cell of the worths of the entry that stands from the cell on: its last one, or where that leads."""
-        _, kind = self.pair_at(cell)
-        if self.number_at(cell + 1) * width(kind) <= CELL:
-            return cell + 2
-        return self.number_at(cell + 2)
-
-    def fault_of_worths(self, place, kind, count):
-        """Why there can't be so many worths of the kind, or None."""
-        if count > MOST_WORTHS:
-            return "many"
-        size = count * width(kind)
-        why = self.fault_of(self.sort_of(kind), place, cells_for(size)) if size > CELL else None
-        if why is None and has_text(kind, self.known):
-            signs = self.numbers[CELL * place:CELL * place + count]
-            if not all([sign_of(sign) is not None for sign in signs]):
-                return "sign"
-        return why
-
-    def plain(self, place, kind, count):
-        """Worths of the kinds 1 to 4, and raw ones."""
-        cells = [cell_of(self.numbers, place + k) for k in range(cells_for(count * width(kind)))]
-        return unpacked(self.order, kind, count, cells, known=self.known)
 
     def piece(self, first, path, number, owner):
         """The piece to which a pointer leads."""
@@ -220,15 +162,5 @@ class Reading:
         why = self.fault_of_piece(first)
         if why is not None:
             return self.lose(why, path, number)
-        many = self.number_at(first)
-        self.hold("piece", first, 1 + cells_for(many), owner)
-        return tuple(self.numbers[CELL * (first + 1):CELL * (first + 1) + many])
-
-    def fault_of_piece(self, first):
-        """Why there can't be a piece, or None."""
-        if not self.is_inside(first, 1):
-            return "beyond"
-        many = self.number_at(first)
-        if many > MOST_WORTHS:
-            return "many"
-        return self.fault_of("piece", first, 1 + cells_for(many))
+        self.hold("piece", first, 1 + cells_for(self.number_at(first)), owner)
+        return self.piece_at(first)

@@ -22,7 +22,7 @@ def _gone_through(file, known):
         return (LOST, error.why), [(error.why, error.path, error.number)]
     reading = Reading(file, order, known, True)
     reading.begin(root)
-    return reading.tree, reading.losses
+    return reading.tree_read, reading.losses
 
 
 def is_part(some, tree, *, known=KNOWN):

@@ -9,7 +9,7 @@ from tornentries.reading import reading_of
 def strokes_of(file, deed, *, known=KNOWN, kept=(), room=2):
     """The strokes of the deed on the file: none at a kept cell, but the last one may be at the head's pointer."""
     reading = reading_of(file, known)
-    if done(reading.tree, deed, known=known) == reading.tree:
+    if done(reading.tree_read, deed, known=known) == reading.tree_read:
         return []
     changing = Changing(reading, {cell: True for cell in kept}, room)
     action = ACTIONS[deed[0]]
