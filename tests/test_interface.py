@@ -41,6 +41,19 @@ INTERFACE = {
         "lets_strokes": "(file, deed, thing, *, known=(1, 2, 3, 4, 5, 6), kept=())",
     },
     "alike": {"first_unlike": "(one, other, *, known=(1, 2, 3, 4, 5, 6))"},
+    "ways": {"way_to": "(path, tag)", "looked": "(rows)"},
+    "machine": {"gone": "(file, rows, *, known=(1, 2, 3, 4, 5, 6))"},
+    "grids": {
+        "tiles_of": "(grid, *, wide, high)",
+        "grid_of": "(tiles, *, size, wide, high)",
+        "grid_entries": "(tag, grid, *, wide, high)",
+        "grid_in": "(tree, path, tag)",
+        "put_grid": "(path, tag, grid, *, wide, high)",
+        "put_number": "(tree, path, tag, row, column, number)",
+    },
+    "texts": {"show_tree": "(tree, *, known=(1, 2, 3, 4, 5, 6))", "show_deed": "(deed)"},
+    "reader": {"read_tree": "(text, *, known=(1, 2, 3, 4, 5, 6))", "read_deed": "(text)"},
+    "figures": {"show_file": "(file)", "read_file": "(text)"},
 }
 
 ERRORS = ("TornError", "Spoilt", "NoTable", "NoTag", "NoShare", "Taken", "NoPiece", "TooMany", "TooDeep", "TooGreat", "NoDeed",

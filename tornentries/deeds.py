@@ -26,10 +26,11 @@ def is_deed(thing, *, known=KNOWN):
     parts = PARTS.get(thing[0])
     if parts is None or len(parts) != len(thing) - 1:
         return False
-    return all([_is_part(part, worth, known) for part, worth in zip(parts, thing[1:])])
+    return all([is_deed_part(part, worth, known) for part, worth in zip(parts, thing[1:])])
 
 
-def _is_part(part, thing, known):
+def is_deed_part(part, thing, known):
+    """Whether this may be such a part of a deed, of anything."""
     if part == "path":
         return is_path(thing)
     if part == "tag":
